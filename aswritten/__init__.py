@@ -1,0 +1,1 @@
+"""Models whose answers have papers about the model as it is written."""
