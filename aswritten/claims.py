@@ -51,8 +51,12 @@ def claim_names(claim):
 def _standing_names(claim):
     if claim[0] in ("from", "is"):
         return [claim[1]]
-    parts = claim[1:] if claim[0] == "not" else claim[1]
-    return [name for part in parts for name in _standing_names(part)]
+    return [name for part in inner_claims(claim) for name in _standing_names(part)]
+
+
+def inner_claims(claim):
+    """Return the claims that a "not", "and" or "or" has."""
+    return claim[1:] if claim[0] == "not" else claim[1]
 
 
 def is_true(claim, at):

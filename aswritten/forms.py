@@ -38,6 +38,11 @@ def are_numbers(value, many, low, high):
     return is_tuple(value, many, many) and all([is_number(n, low, high) for n in value])
 
 
+def is_flat(value, fewest, most):
+    """Tell whether value is a tuple of fewest to most strings and integers."""
+    return is_tuple(value, fewest, most) and all([type(item) in (str, int) for item in value])
+
+
 def ascends(items):
     """Tell whether items, which can be compared, ascend and have nothing twice."""
     return all([items[k] < items[k + 1] for k in range(len(items) - 1)])
@@ -79,3 +84,11 @@ def are_small(domains, names):
     for name in names:
         size = size * len(domains[name])
     return size <= SMALL_BOUND
+
+
+def tuples_of(lists):
+    """Return the list of all tuples with an item of each list, the last one changing first."""
+    tuples = [()]
+    for items in lists:
+        tuples = [before + (item,) for before in tuples for item in items]
+    return tuples

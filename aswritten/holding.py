@@ -58,13 +58,8 @@ def _ahead_holds(saying, at):
 
 
 def _machine_holds(saying, at):
-    xs, stand, moves, ends = saying[1:]
-    nexts = {(before, v): behind for before, v, behind in moves}
-    for x in xs:
-        stand = nexts.get((stand, at[x]))
-        if stand is None:
-            return False
-    return stand in ends
+    path = path_of(saying, at)
+    return len(path) > len(saying[1]) and path[-1] in saying[4]
 
 
 def _works_holds(saying, at):
@@ -78,15 +73,13 @@ def _load(saying, at, moment):
 
 
 def _round_holds(saying, at):
-    xs = saying[1]
-    place = 0
-    for steps in range(1, len(xs) + 1):
-        place = at[xs[place]]
-        if place == 0:
-            return steps == len(xs)
-        if not 0 < place < len(xs):
-            return False
-    return False
+    path = path_of(saying, at)
+    many = len(saying[1])
+    return len(path) > many and path[many] == 0 and 0 not in path[1:many]
+
+
+def _web_holds(saying, at):
+    return len(path_of(saying, at)) > len(saying[1])
 
 
 def _claim_holds(saying, at):
@@ -95,6 +88,42 @@ def _claim_holds(saying, at):
 
 def _when_holds(saying, at):
     return not is_true(saying[1], at) or holds(saying[2], at)
+
+
+def path_of(saying, at):
+    """Return the stands, places or nodes that are met one after the other, as far as one can go."""
+    xs = saying[1]
+    if saying[0] == "round":
+        return _places_met(xs, at)
+    if saying[0] == "machine":
+        nexts = {(before, v): behind for before, v, behind in saying[3]}
+        return _met(saying[2], [(at[x], nexts) for x in xs])
+    steps = [(at[x], _nexts_of(level)) for x, level in zip(xs, saying[2])]
+    return _met(0, steps)
+
+
+def _nexts_of(level):
+    return {(number, v): behind for number, node in enumerate(level) for v, behind in node}
+
+
+def _met(start, steps):
+    path = [start]
+    for v, nexts in steps:
+        if (path[-1], v) not in nexts:
+            return path
+        path.append(nexts[(path[-1], v)])
+    return path
+
+
+def _places_met(xs, at):
+    # going on behind a return to place 0, too
+    path = [0]
+    for _ in xs:
+        place = at[xs[path[-1]]]
+        if not 0 <= place < len(xs):
+            return path
+        path.append(place)
+    return path
 
 
 _TELLS = {
@@ -111,6 +140,7 @@ _TELLS = {
     "machine": _machine_holds,
     "works": _works_holds,
     "round": _round_holds,
+    "web": _web_holds,
     "claim": _claim_holds,
     "when": _when_holds,
 }

@@ -17,6 +17,9 @@ LIBRARY = {
                   "zip_longest"),
     "collections": ("defaultdict", "deque"),
 }
+METHODS = set("""append clear copy count endswith extend find get index insert isalnum isalpha isdigit islower isspace
+    isupper items join keys ljust lower lstrip partition pop remove replace reverse rfind rjust rpartition rsplit
+    rstrip setdefault split splitlines startswith strip update upper values zfill bit_length""".split())
 BUILTINS = set("""len range enumerate zip min max sum abs sorted reversed int str bool bytes list tuple dict set
     frozenset isinstance ord repr any all divmod pow map iter next getattr hasattr setattr property staticmethod
     classmethod super type Exception ValueError TypeError KeyError IndexError LookupError ZeroDivisionError
@@ -93,6 +96,44 @@ class Language(unittest.TestCase):
             for node in ast.walk(tree):
                 if isinstance(node, ast.Name):
                     self.assertNotIn(node.id, barred, (path, node.lineno))
+
+    def test_local_names_are_no_imports_classes_or_builtins(self):
+        import builtins
+        for path, tree in trees():
+            taken = {alias.name for node in imports_of(tree) for alias in node.names}
+            taken |= {node.name for node in tree.body if isinstance(node, ast.ClassDef)} | set(dir(builtins))
+            for node in ast.walk(tree):
+                if isinstance(node, ast.arg):
+                    self.assertNotIn(node.arg, taken, (path, node.lineno))
+                if isinstance(node, ast.Name) and isinstance(node.ctx, ast.Store):
+                    self.assertNotIn(node.id, taken, (path, node.lineno))
+
+    def test_each_name_of_a_module_is_bound_once_and_each_import_is_used(self):
+        for path, tree in trees():
+            imported = [alias.name for node in imports_of(tree) for alias in node.names]
+            bound = imported + [node.name for node in tree.body if isinstance(node, (ast.FunctionDef, ast.ClassDef))]
+            bound += [target.id for node in tree.body if isinstance(node, ast.Assign) for target in node.targets]
+            self.assertEqual(sorted(bound), sorted(set(bound)), path)
+            used = {node.id for node in ast.walk(tree) if isinstance(node, ast.Name)}
+            self.assertEqual([name for name in imported if name not in used], [], path)
+
+    def test_is_stands_beside_none_true_and_false(self):
+        for path, tree in trees():
+            for node in ast.walk(tree):
+                if isinstance(node, ast.Compare) and any(isinstance(op, (ast.Is, ast.IsNot)) for op in node.ops):
+                    is_type = isinstance(node.left, ast.Call) and getattr(node.left.func, "id", "") == "type"
+                    right = node.comparators[0]
+                    is_constant = isinstance(right, ast.Constant) and right.value in (None, True, False)
+                    self.assertTrue(is_type or is_constant, (path, node.lineno))
+
+    def test_methods_are_those_of_the_language_or_own_ones(self):
+        own = {node.name for path, tree in trees() for item in ast.walk(tree) if isinstance(item, ast.ClassDef)
+               for node in item.body if isinstance(node, ast.FunctionDef)}
+        self.assertEqual(own & METHODS, set())
+        for path, tree in trees():
+            for node in ast.walk(tree):
+                if isinstance(node, ast.Call) and isinstance(node.func, ast.Attribute):
+                    self.assertIn(node.func.attr, METHODS | own, (path, node.lineno))
 
     def test_signs_of_the_language_that_are_barred(self):
         barred = (ast.AsyncFunctionDef, ast.Await)
