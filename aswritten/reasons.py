@@ -10,7 +10,7 @@ from aswritten.whys import chain_steps, lefts_before, why_step
 def reason(model, state, log, k):
     """Return (row, paper): why the entry number k of the log is taken out, by its saying alone."""
     draft = Draft(Book(model))
-    before = lefts_before(lefts_of(model, state), log)
+    before = lefts_before(lefts_of(model, state), log[:k + 1])
     return draft.paper(_entry_step(draft, log, before, k))
 
 

@@ -563,6 +563,22 @@ class Marks(unittest.TestCase):
         told = [marks for one, marks in rows_of(model, ("none",), (head, steps))]
         self.assertEqual(told, ["T", "", "N", "S", "B", "", "T", "NS", "BNST", "BNST", "BNST", "BNST", ""])
 
+    def test_papers_that_are_spoilt_at_each_place_are_no_errors(self):
+        wish = (0, (("x", 1), ("y", 1)), 0)
+        beside = total("1 not from x 1 + 1 not from x 2 + 1 not from y 1 + 1 not from y 2 >= 3")
+        head = (("x", "y"), (CHANGE,), (wish,), ((0, 2),))
+        steps = (("turned", (0,)), ("name", 0, beside), ("beside", 0, (("name", 0),)), ("given", ("tells", "d", 0)),
+                 ("better",), ("side", (("name", 0), False)), ("told", "d", row("is x 1, is y 1 ->")),
+                 ("add", ((2, 1), (3, 2))), ("divide", 7, 2), ("trim", 8), ("weaken", 9, ("name", 0)), ("back", 1),
+                 ("led", row("is x 1, is y 1 ->"), (6,)))
+        model = (UNKNOWNS, SAYINGS[:2], ())
+        self.assertEqual(fault(*steps, head=head, model=model), len(steps))
+        for odd in (None, True, False, -1, 0, 1, 7, 10 ** 29, "x", "d", "name", (), ("name", 0), (("is", "x", 1), True)):
+            for value in changed_at_each_place((head, steps), odd):
+                told = first_fault(model, ("row", row("is x 1, is y 1 ->")), value)
+                self.assertTrue(told is None or type(told) is int and -1 <= told <= len(steps), value)
+                self.assertIs(judge(model, ("row", row("is x 1, is y 1 ->")), value), told is None)
+
     def test_marks_of_what_is_led_come_from_all_its_numbers(self):
         # the first number settles nothing, but is used
         steps = (("given", ("one", "x", 0)), ("given", ("tells", "d", 0)),
