@@ -4,18 +4,30 @@ from aswritten.forms import is_flat, is_number
 from aswritten.models import domains_of
 from aswritten.notation import at_least, at_most, from_term, implied, next_value
 from aswritten.signrows import sign_rows_of
+from aswritten.signs import signs_of
 from aswritten.tellings import telling_rows_of
 
 
 class Book:
-    """The given rows of a model; those of a saying are listed once, when the first one is asked."""
+    """The given rows of a model; those of a saying are listed once, when the first one is asked.
+
+    smalls has what was worked out of small sayings, by their names.
+    """
 
     def __init__(self, model):
         self.model = model
         self.domains = domains_of(model)
         self.sayings = {item[0]: item[1] for item in model[1] + model[2]}
         self.soft = {item[0]: True for item in model[2]}
+        self.smalls = {}
         self._lists = {}
+        self._signs = {}
+
+    def signs(self):
+        """Return the dict that has each sign of the model as a key."""
+        if not self._signs:
+            self._signs = signs_of(self.model)
+        return self._signs
 
     def listed(self, word, s):
         """Return the list of the sign rows ("sign") or the telling rows ("tells") of s."""

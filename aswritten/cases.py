@@ -8,7 +8,8 @@ class Case:
     """The value v of x, which is left, but does not stand in the saying s, or in its inner saying.
 
     all_lefts has the values left; lefts has v alone for x. gone has the sides (sign, True) of the values that are
-    gone, goal the side (sign, False) of v, and front, for an inner saying, the side (sign, False) of the claim.
+    gone, goal the side (sign, False) of v, and front the sides (sign, False) of the claim, for an inner saying, and
+    of what a soft saying is called when it is kept.
     What is sought are steps whose rows clash, looked at one by one, where none of these sides holds.
     """
 
@@ -24,6 +25,8 @@ class Case:
         self.gone = gone_sides(self.domains, own_names(saying), lefts)
         self.goal = (("is", x, v), False)
         self.front = [] if draft.book.sayings[s] == saying else [(("if", s), False)]
+        if s in draft.book.soft:
+            self.front.append((("kept", s), False))
 
     def one(self, y, k):
         """Return the step: at least one (k 0), or at most one (k 1), of the values of y is taken."""
@@ -58,14 +61,19 @@ class Case:
         """Return the steps that settle the from-signs of y up to its least value left, and behind the greatest."""
         if y == self.x:
             return self.taken(y, self.v)
-        below = [u for u in self.domains[y] if u < self.lefts[y][0]]
-        above = [u for u in self.domains[y] if u > self.lefts[y][-1]]
-        above.reverse()
-        return [self.draft.given(("part", y, u, 0)) for u in below + above]
+        return end_steps(self.draft, y, self.lefts[y])
 
     def led(self, sides, numbers):
         """Put that one of these sides or of those of the case holds, by looking at the rows of the steps."""
         return self.draft.led(sides + self.gone + self.front + [self.goal], [], numbers)
+
+
+def end_steps(draft, y, values):
+    """Return the steps that settle the from-signs of y up to the least of the values left, and behind the greatest."""
+    below = [u for u in draft.book.domains[y] if u < values[0]]
+    above = [u for u in draft.book.domains[y] if u > values[-1]]
+    above.reverse()
+    return [draft.given(("part", y, u, 0)) for u in below + above]
 
 
 def gone_sides(domains, names, lefts):

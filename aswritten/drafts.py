@@ -1,22 +1,27 @@
 """Drafts of papers: steps that are put one behind the other, with their rows."""
 
+from aswritten.judge import NO_HEAD
+from aswritten.notation import with_side
+from aswritten.papers import beside_row, better_row
 from aswritten.reckoning import divided, summed
+from aswritten.rows import denial
 from aswritten.smalls import small_saying
-from aswritten.steps import kept_steps, numbers_in
-
-NO_HEAD = ((), (), (), ())
-
+from aswritten.steps import numbers_in, renumbered
 
 class Draft:
-    """Steps without names, of a paper with the head NO_HEAD. Steps are told by their numbers."""
+    """Steps that are put one behind the other; they are told by their numbers.
+
+    whys has the steps that tell why values do not stand, by what they were told of.
+    """
 
     def __init__(self, book):
         self.book = book
         self.steps = []
         self.rows = []
         self._numbers = {}
+        self.whys = {}
+        self._names = {}
         self._places = {}
-        self._smalls = {}
 
     def _put(self, step, row):
         self.steps.append(step)
@@ -36,6 +41,10 @@ class Draft:
             self._places[(word, s)] = {one: k for k, one in enumerate(self.book.listed(word, s))}
         return self.given((word, s, self._places[(word, s)][row]))
 
+    def sided(self, side):
+        """Put the row that the side is worth at least 0."""
+        return self._put(("side", side), (((side, 1),), 0))
+
     def added(self, pairs):
         """Put the sum of the rows of the pairs (step, m), each m times."""
         step = ("add", tuple(pairs))
@@ -52,12 +61,11 @@ class Draft:
 
     def told(self, s, sides, needed):
         """Put, of a small saying, that one of the sides holds: of needed, and of as few others as will do."""
-        if s not in self._smalls:
-            self._smalls[s] = small_saying(self.book, s)
+        small = small_saying(self.book, s)
         kept = list(sides)
         for side in sides:
             fewer = [other for other in kept if other != side]
-            if self._smalls[s].lets(clause(fewer + needed)):
+            if small.lets(clause(fewer + needed)):
                 kept = fewer
         row = clause(kept + needed)
         return self._put(("told", s, row), row)
@@ -79,10 +87,54 @@ class Draft:
         row = clause([side for side in sides if side in used_sides] + needed)
         return self._put(("led", row, used_numbers), row)
 
+    def ruled(self, row, numbers):
+        """Put this row: looking at its denial and the rows of the steps, in order, the last one clashes first."""
+        return self._put(("led", row, tuple(numbers)), row)
+
+    def named(self, n, row):
+        """Put that the name with the number n, which is given here, lets the row hold."""
+        self._names[n] = len(self.steps)
+        return self._put(("name", n, row), with_side(row, (("name", n), False)))
+
+    def back(self, number):
+        """Put that the name given by the step holds if its row does."""
+        n, row = self.steps[number][1:]
+        return self._put(("back", number), with_side(denial(row), (("name", n), True)))
+
+    def better(self, wishes, filling):
+        """Put the row of a step "better", for a head with these wishes and this filling."""
+        return self._put(("better",), better_row(self.book.model, wishes, filling))
+
+    def below(self, n, wish, filling):
+        """Put the name with the number n for: the wish is less than at the filling."""
+        return self.named(n, beside_row(self.book.model, wish, filling))
+
+    def beside(self, i, ns):
+        """Put that one of the names with the numbers ns, which compare with the filling i of the head, holds."""
+        names = tuple([("name", n) for n in ns])
+        return self._put(("beside", i, names), clause([(name, True) for name in names]))
+
     def paper(self, number):
         """Return the pair of the row of a step and the paper of this step and of those that it uses."""
-        steps = self.steps[:number + 1]
-        return (self.rows[number], (NO_HEAD, kept_steps(steps, [numbers_in(step) for step in steps])))
+        return (self.rows[number], (NO_HEAD, self.steps_to(number)))
+
+    def steps_to(self, number):
+        """Return the tuple of this step and of those that it uses, numbered anew."""
+        kept = {number: True}
+        waiting = [number]
+        while waiting:
+            for other in self._used_by(waiting.pop()):
+                if other not in kept:
+                    kept[other] = True
+                    waiting.append(other)
+        anew = {old: place for place, old in enumerate(sorted(kept))}
+        return tuple([renumbered(self.steps[old], anew) for old in sorted(kept)])
+
+    def _used_by(self, number):
+        names = []
+        if self._names:
+            names = [self._names[sign[1]] for (sign, worth), c in self.rows[number][0] if sign[0] == "name"]
+        return [other for other in numbers_in(self.steps[number]) + names if other != number]
 
 
 def clause(sides):

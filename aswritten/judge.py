@@ -11,6 +11,7 @@ from aswritten.steps import Reading, kept_steps, marks_of, numbers_in
 from aswritten.turns import keeps_wish
 from aswritten.wishes import worths
 
+NO_HEAD = ((), (), (), ())
 # the letters that the last row may have; T for "best" and "unbeaten" hangs on the exchanges of the head
 LET = {"none": "ST", "row": "S", "always": "", "best": "BNS", "unbeaten": "NS"}
 
@@ -22,14 +23,23 @@ def judge(model, asked, value):
 
 def first_fault(model, asked, value):
     """Return None for a paper that is taken, -1 without a right head and a tuple, or the number of the faulty step."""
-    if not is_tuple(value, 2, 2) or type(value[1]) is not tuple or not is_head(model, value[0]):
+    return _fault_in(Book(model), asked, value)
+
+
+def _fault_in(book, asked, value):
+    if not is_tuple(value, 2, 2) or type(value[1]) is not tuple or not is_head(book.model, value[0]):
         return -1
     head, steps = value
-    reading = Reading(Book(model), head)
+    reading = Reading(book, head)
     for number, step in enumerate(steps):
         if not reading.take(step):
             return number
-    return None if steps != () and _is_taken(model, asked, reading) else len(steps)
+    return None if steps != () and _is_taken(book.model, asked, reading) else len(steps)
+
+
+def is_plainly_taken(book, asked, value):
+    """Tell whether any value is a paper with the head ((), (), (), ()) that is taken in the model of the book."""
+    return is_tuple(value, 2, 2) and value[0] == NO_HEAD and _fault_in(book, asked, value) is None
 
 
 def _is_taken(model, asked, reading):

@@ -66,7 +66,8 @@ def small_saying(book, s):
     """Return the small saying of any name, or None if the model has no small one of it."""
     if type(s) is not str or s not in book.sayings:
         return None
-    saying = book.sayings[s]
-    if saying[0] == "web" or not are_small(book.domains, own_names(saying)):
-        return None
-    return SmallSaying(book.domains, s, saying, s in book.soft)
+    if s not in book.smalls:
+        saying = book.sayings[s]
+        is_small = saying[0] != "web" and are_small(book.domains, own_names(saying))
+        book.smalls[s] = SmallSaying(book.domains, s, saying, s in book.soft) if is_small else None
+    return book.smalls[s]

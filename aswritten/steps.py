@@ -5,7 +5,7 @@ from aswritten.notation import with_side
 from aswritten.papers import beside_row, better_row, turned_row
 from aswritten.reckoning import clashes_last, divided, summed, trimmed_row, weakened
 from aswritten.rows import denial, is_row, is_side_form
-from aswritten.signs import is_sign, signs_of
+from aswritten.signs import is_sign
 from aswritten.smalls import small_saying
 
 GREATEST = 10 ** 60 - 1
@@ -30,12 +30,11 @@ class Reading:
     def __init__(self, book, head):
         self.book = book
         self.head = head
-        self.signs = signs_of(book.model)
+        self.signs = book.signs()
         self.rows = []
         self.bits = []
         self.named = {}
         self.names_at = {}
-        self._smalls = {}
 
     def take(self, step):
         """Read any value as the next step and return True, or return False if it is none that is as told."""
@@ -56,12 +55,6 @@ class Reading:
     def is_step(self, value):
         """Tell whether any value is the number of a step that was read."""
         return is_number(value, 0, len(self.rows) - 1)
-
-    def small(self, s):
-        """Return the small saying of any name, or None if there is none."""
-        if s not in self._smalls:
-            self._smalls[s] = small_saying(self.book, s)
-        return self._smalls[s]
 
     def marks(self):
         """Return the marks of the last row."""
@@ -89,9 +82,9 @@ def _given(reading, step):
 
 def _told(reading, step):
     s, row = step[1:]
-    if type(s) is not str or not is_row(row, reading.is_known):
+    if not is_row(row, reading.is_known):
         return None
-    small = reading.small(s)
+    small = small_saying(reading.book, s)
     return (row, SAID) if small is not None and small.lets(row) else None
 
 

@@ -37,7 +37,7 @@ def strike(model, state):
 def strike_with(model, state, names):
     """Return the state that comes of striking with the sayings of these names alone, or None."""
     lefts = lefts_of(model, state)
-    strike_out(_saids(model, names), lefts)
+    striker_of(model, names).strike_out(lefts)
     closed = tuple([lefts[item[0]] for item in model[0]])
     return None if () in closed else closed
 
@@ -45,27 +45,44 @@ def strike_with(model, state, names):
 def strike_log(model, state):
     """Return a log for the state: what is struck out one by one, and by which sayings."""
     names = tuple([s for s, saying in model[1]])
-    return tuple(strike_out(_saids(model, names), lefts_of(model, state)))
+    return tuple(striker_of(model, names).strike_out(lefts_of(model, state)))
 
 
-def strike_out(saids, lefts):
-    """Take values out of lefts till all stand or an unknown has none, and return the entries of the log."""
-    entries = []
-    waiting = {s: True for s in saids}
-    while waiting:
-        s = list(waiting)[0]
-        del waiting[s]
-        struck = struck_values(saids[s], lefts)
-        for x, v in struck:
-            lefts[x] = tuple([w for w in lefts[x] if w != v])
-            entries.append((x, v, s))
-            if lefts[x] == ():
-                return entries
-        names = {x: True for x, v in struck}
-        for other, said in saids.items():
-            if any([x in names for x in said.names]):
-                waiting[other] = True
-    return entries
+def striker_of(model, names):
+    """Return the striker of the sayings of these names."""
+    return Striker(_saids(model, names))
+
+
+class Striker:
+    """Sayings that strike; saids has them under their names."""
+
+    def __init__(self, saids):
+        self.saids = saids
+        self._having = {}
+        for s, said in saids.items():
+            for x in said.names:
+                self._having.setdefault(x, []).append(s)
+
+    def strike_out(self, lefts):
+        """Take values out of lefts till all stand or an unknown has none, and return the entries of the log."""
+        return self._go_on(lefts, {s: True for s in self.saids})
+
+    def strike_behind(self, lefts, x):
+        """Do so where all stood before values of x were taken out."""
+        return self._go_on(lefts, {s: True for s in self._having.get(x, [])})
+
+    def _go_on(self, lefts, waiting):
+        entries = []
+        while waiting:
+            s = list(waiting)[0]
+            del waiting[s]
+            for x, v in struck_values(self.saids[s], lefts):
+                lefts[x] = tuple([w for w in lefts[x] if w != v])
+                entries.append((x, v, s))
+                if lefts[x] == ():
+                    return entries
+                waiting.update({other: True for other in self._having[x]})
+        return entries
 
 
 def struck_values(said, lefts):

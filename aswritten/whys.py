@@ -7,7 +7,7 @@ from aswritten.claims import claim_names
 from aswritten.forms import are_small
 from aswritten.sayings import own_names
 from aswritten.standing import Said
-from aswritten.striking import strike_out
+from aswritten.striking import Striker
 from aswritten.walks import ahead_steps, machine_steps, round_steps, works_steps
 
 
@@ -16,7 +16,7 @@ def why_step(draft, s, lefts, x, v):
     saying = draft.book.sayings[s]
     case = Case(draft, s, saying, lefts, x, v)
     if are_small(draft.book.domains, own_names(saying)):
-        return draft.told(s, case.gone, [case.goal])
+        return draft.told(s, case.gone, case.front + [case.goal])
     return _clause_step(case)
 
 
@@ -53,6 +53,12 @@ def lefts_before(lefts, entries):
     return before
 
 
+def lefts_at(lefts, entries):
+    """Return what is left when the values of the entries (x, v, ..) are taken out."""
+    gone = {(entry[0], entry[1]): True for entry in entries}
+    return {x: tuple([v for v in values if (x, v) not in gone]) for x, values in lefts.items()}
+
+
 def when_steps(case):
     """Return the steps for a "when": with v its claim is surely true, but its inner saying does not let v stand."""
     claim, inner = case.saying[1:]
@@ -62,7 +68,8 @@ def when_steps(case):
         steps_of = _STEPS[inner[0]]
         return [opened] + steps_of(inner_case)
     # else the inner saying cannot hold at all
-    entries = strike_out({case.s: Said(case.domains, inner)}, {x: values for x, values in case.all_lefts.items()})
+    striker = Striker({case.s: Said(case.domains, inner)})
+    entries = striker.strike_out({x: values for x, values in case.all_lefts.items()})
     before = lefts_before(case.all_lefts, entries)
     return [opened] + chain_steps(case.draft, case.domains, entries, lambda k: _inner_step(case, before, entries, k))
 

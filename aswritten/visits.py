@@ -1,0 +1,104 @@
+"""Plain search: visits of states, with the choices and the fillings that are met."""
+
+from aswritten.models import domains_of
+from aswritten.sayings import own_names
+from aswritten.striking import striker_of
+
+MOST_FIRST = 400
+MOST_WHOLE = 2000
+
+
+class Search:
+    """A plain search with a striker by an order of names, up to one choice more than most.
+
+    choices has what was chosen, fillings the dicts of the values met, each as a tuple of one; is_cut tells whether
+    there are more than most choices.
+    """
+
+    def __init__(self, striker, order, most, is_to_first):
+        self.choices = []
+        self.fillings = []
+        self.is_cut = False
+        self._striker = striker
+        self._order = order
+        self._most = most
+        self._is_to_first = is_to_first
+
+    def start(self, lefts):
+        """Visit the state with these values left."""
+        now = {x: values for x, values in lefts.items()}
+        self._look_in(now, self._striker.strike_out(now), 0)
+
+    def _look_in(self, lefts, entries, depth):
+        if is_dead(lefts, entries):
+            return
+        x = next_open(self._order, lefts)
+        if x is None:
+            self.fillings.append(lefts)
+            return
+        for v in lefts[x]:
+            if self._is_over():
+                return
+            self.choices.append((depth, x, v))
+            if len(self.choices) > self._most:
+                self.is_cut = True
+                return
+            now = {y: values for y, values in lefts.items()}
+            now[x] = (v,)
+            self._look_in(now, self._striker.strike_behind(now, x), depth + 1)
+
+    def _is_over(self):
+        return self.is_cut or self._is_to_first and self.fillings != []
+
+
+def is_dead(lefts, entries):
+    """Tell whether striking, with these entries, has left some unknown without a value."""
+    return entries != [] and lefts[entries[-1][0]] == ()
+
+
+def next_open(order, lefts):
+    """Return the first name of the order that has more than one value left, or None."""
+    for x in order:
+        if len(lefts[x]) > 1:
+            return x
+    return None
+
+
+def searched(model, order, most, is_to_first):
+    """Return a plain search of the model that has ended."""
+    search = Search(striker_of(model, tuple([s for s, saying in model[1]])), order, most, is_to_first)
+    search.start(domains_of(model))
+    return search
+
+
+def names_in(model):
+    """Return the tuple of the names of the unknowns, in order."""
+    return tuple([x for x, domain in model[0]])
+
+
+def filling_at(names, lefts):
+    """Return the tuple of the values of the names, of which each has one left."""
+    return tuple([lefts[x][0] for x in names])
+
+
+def parts_of(model):
+    """Return the tuple of the parts: names joined by sayings, in order."""
+    names = names_in(model)
+    lots = {x: [x] for x in names}
+    for item in model[1] + model[2]:
+        own = own_names(item[1])
+        joined = lots[own[0]]
+        for x in own[1:]:
+            if lots[x] != joined:
+                joined = joined + lots[x]
+        for x in joined:
+            lots[x] = joined
+    parts = {tuple([y for y in names if y in lots[x]]): True for x in names}
+    return tuple(parts)
+
+
+def model_of_part(model, part):
+    """Return the model of the unknowns of the part with all that is said of them."""
+    unknowns = tuple([item for item in model[0] if item[0] in part])
+    sayings, soft = [tuple([item for item in items if own_names(item[1])[0] in part]) for items in model[1:]]
+    return (unknowns, sayings, soft)

@@ -1,0 +1,47 @@
+"""Sums over the parts of a model: joined wishes and rows, with what they come to in the fillings of each part."""
+
+from aswritten.books import Book
+from aswritten.drafts import Draft
+from aswritten.notation import at_least, weighed_terms
+from aswritten.partial import dead_part, joined_filling, none_answer, parts_by_whole
+from aswritten.signs import is_sign_true
+from aswritten.wishes import ranges, worths
+
+
+def best_answer(model, wishes):
+    """Return ("best", worths, filling, paper) with the least best filling, or ("none", paper); by whole."""
+    searched = parts_by_whole(model)
+    dead = dead_part(searched)
+    if dead is not None:
+        return none_answer(model, dead)
+    draft = Draft(Book(model))
+    chosen = []
+    numbers = []
+    for n, part in enumerate(searched):
+        parts = at_least(_joined_pairs(model, wishes, part), 0)[0]
+        sums = [row_sum(draft.book.sayings, parts, at) for at in part.fillings]
+        least = min(sums)
+        chosen.append(part.fillings[sums.index(least)])
+        if parts != ():
+            numbers.append(part.row_step(draft, n, (parts, least)))
+    filling = joined_filling(model, chosen)
+    numbers.append(draft.better(wishes, filling))
+    number = draft.added([(one, 1) for one in numbers])
+    paper = (((), (), wishes, (filling,)), draft.steps_to(number))
+    return ("best", worths(model, wishes, filling), filling, paper)
+
+
+def _joined_pairs(model, wishes, part):
+    # the terms of the joined wish that are of the part, without its constants
+    pairs = []
+    for (constant, terms, prices), (low, high) in zip(wishes, ranges(model, wishes)):
+        pairs = [(term, c * (high - low + 1)) for term, c in pairs]
+        pairs.extend(weighed_terms(part.domains, [(x, w) for x, w in terms if x in part.domains]))
+        if prices == 1:
+            pairs.extend([(("kept", s), -price) for s, saying, price in part.model[2]])
+    return pairs
+
+
+def row_sum(sayings, parts, at):
+    """Return the sum of the c of those sides that are worth 1 at these values."""
+    return sum([c for (sign, worth), c in parts if is_sign_true(sayings, sign, at) == worth])
