@@ -21,14 +21,16 @@ def _rows(rows):
 
 
 def _wish(wish, names):
+    # in the order of the new names, in which the terms come back
     constant, terms, prices = wish
-    return _sum(terms, constant, names) + (", prices" if prices == 1 else "")
+    ordered = sorted(terms, key=lambda term: names[term[0]])
+    return _sum(ordered, constant, names) + (", prices" if prices == 1 else "")
 
 
 def _sum(terms, constant, names):
     # the minus before a number stands as the sign of its term
     pairs = [(constant, "")] + [(w, f" * {names[x]}") for x, w in terms]
-    if constant == 0 and terms != ():
+    if constant == 0 and len(pairs) > 1:
         del pairs[0]
     told = " ".join([("- " if n < 0 else "+ ") + str(abs(n)) + behind for n, behind in pairs])
     return told[2:] if told[0] == "+" else told
