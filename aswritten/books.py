@@ -11,11 +11,11 @@ from aswritten.tellings import telling_rows_of
 class Book:
     """The given rows of a model; those of a saying are listed once, when the first one is asked.
 
-    smalls has what was worked out of small sayings, by their names.
+    source is the model; smalls has what was worked out of small sayings, by their names.
     """
 
     def __init__(self, model):
-        self.model = model
+        self.source = model
         self.domains = domains_of(model)
         self.sayings = {item[0]: item[1] for item in model[1] + model[2]}
         self.soft = {item[0]: True for item in model[2]}
@@ -26,7 +26,7 @@ class Book:
     def signs(self):
         """Return the dict that has each sign of the model as a key."""
         if not self._signs:
-            self._signs = signs_of(self.model)
+            self._signs = signs_of(self.source)
         return self._signs
 
     def listed(self, word, s):

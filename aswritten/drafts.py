@@ -103,11 +103,11 @@ class Draft:
 
     def better(self, wishes, filling):
         """Put the row of a step "better", for a head with these wishes and this filling."""
-        return self._put(("better",), better_row(self.book.model, wishes, filling))
+        return self._put(("better",), better_row(self.book.source, wishes, filling))
 
     def below(self, n, wish, filling):
         """Put the name with the number n for: the wish is less than at the filling."""
-        return self.named(n, beside_row(self.book.model, wish, filling))
+        return self.named(n, beside_row(self.book.source, wish, filling))
 
     def beside(self, i, ns):
         """Put that one of the names with the numbers ns, which compare with the filling i of the head, holds."""

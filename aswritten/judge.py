@@ -27,14 +27,14 @@ def first_fault(model, asked, value):
 
 
 def _fault_in(book, asked, value):
-    if not is_tuple(value, 2, 2) or type(value[1]) is not tuple or not is_head(book.model, value[0]):
+    if not is_tuple(value, 2, 2) or type(value[1]) is not tuple or not is_head(book.source, value[0]):
         return -1
     head, steps = value
     reading = Reading(book, head)
     for number, step in enumerate(steps):
         if not reading.take(step):
             return number
-    return None if steps != () and _is_taken(book.model, asked, reading) else len(steps)
+    return None if steps != () and _is_taken(book.source, asked, reading) else len(steps)
 
 
 def is_plainly_taken(book, asked, value):

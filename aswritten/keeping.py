@@ -18,7 +18,7 @@ def uses(model, asked, paper):
 
 def rests(before, after, asked, paper):
     """Tell whether a paper that is taken in the model before rests in the model after."""
-    return is_resting(before, after, asked, paper)
+    return is_resting(used_names(before, asked, paper), before, after, asked, paper[0])
 
 
 def renamed(model, names):
@@ -48,7 +48,7 @@ class Keeper:
         # all states that undo and redo lead through, and the place of the present one
         self._states = [(model, wishes)]
         self._place = 0
-        # triples: what was asked, the model for which the paper was new, the paper
+        # tuples: what was asked, the model for which the paper was new, the names that it uses, the paper
         self._papers = []
 
     @property
@@ -165,11 +165,11 @@ class Keeper:
 
     def _kept(self, asked):
         # the first paper returned for this that rests in the present model, or None
-        for other, before, paper in self._papers:
-            if other == asked and is_resting(before, self.model, asked, paper):
+        for other, before, used, paper in self._papers:
+            if other == asked and is_resting(used, before, self.model, asked, paper[0]):
                 return paper
         return None
 
     def _added(self, asked, paper):
-        self._papers.append((asked, self.model, paper))
+        self._papers.append((asked, self.model, used_names(self.model, asked, paper), paper))
         return paper

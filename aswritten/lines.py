@@ -14,13 +14,13 @@ FREE_WISHES = ((0, (), 0),)
 
 
 class Text:
-    """What the lines read so far tell: the parts of a model, wishes, and places, pairs (name, number of the line)."""
+    """What the lines read so far tell: the parts of a model, what is wished, and places, pairs (name, line)."""
 
     def __init__(self):
         self.unknowns = ()
         self.sayings = ()
         self.soft = ()
-        self.wishes = ()
+        self.wished = ()
         self.places = []
         self._world = World()
 
@@ -133,9 +133,9 @@ class Text:
             cursor.expect("prices")
         cursor.expect("")
         constant, terms = Writer(self._world, cursor.number).gathered([(1, whole)], {})
-        self.wishes = self.wishes + ((constant, tuple(sorted(terms)), prices),)
+        self.wished = self.wished + ((constant, tuple(sorted(terms)), prices),)
         try:
-            check_wishes(self.model_told(), self.wishes)
+            check_wishes(self.model_told(), self.wished)
         except BadWish:
             raise BadText(cursor.number) from None
 
@@ -160,6 +160,6 @@ def read_text(text):
         told.read(line, k + 1)
     if told.unknowns == ():
         raise BadText(len(lines))
-    if told.wishes == ():
-        told.wishes = FREE_WISHES
+    if told.wished == ():
+        told.wished = FREE_WISHES
     return told

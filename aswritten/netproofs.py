@@ -16,7 +16,7 @@ class Net:
         self.end = self.stand_sign(len(names), 0)
         self._befores = {}
         self._somes = {}
-        self._misses = {}
+        self._lefts = {}
 
     def stand_sign(self, k, j):
         """Return the sign: behind k values one is at the node j."""
@@ -54,19 +54,26 @@ class Net:
             self._somes[k] = self.draft.led(sides, [(self.end, False)], numbers + [self._some_step(k + 1)])
         return self._somes[k]
 
-    def missed(self, k, j, v):
-        """Return the step: who comes to the end does not go on by v from the node j, which has no such pair."""
-        if (k, j, v) not in self._misses:
-            stands = [self.stand_sign(k, i) for i in range(len(self.web[k]))]
-            numbers = []
-            if k > 0:
-                numbers.append(self.draft.listed("sign", self._s, at_most([(stand, 1) for stand in stands], 1)))
-            numbers.extend([self._came(k, v, u) for u in range(len(self.web[k + 1]))])
+    def left(self, k, v):
+        """Return the step: who comes to the end, and has v as value number k, was at a node from which v leads on."""
+        if (k, v) not in self._lefts:
+            numbers = [self._came(k, v, u) for u in range(len(self.web[k + 1]))]
             if k + 1 < len(self.names):
                 numbers.append(self._some_step(k + 1))
-            sides = [(stands[j], False), (("is", self.names[k], v), False), (self.end, False)]
-            self._misses[(k, j, v)] = self.draft.led(sides, [], numbers)
-        return self._misses[(k, j, v)]
+            sides = [(("is", self.names[k], v), False), (self.end, False)]
+            sides.extend([(stand, True) for stand in self._stands_with(k, v)])
+            self._lefts[(k, v)] = self.draft.led(sides, [], numbers)
+        return self._lefts[(k, v)]
+
+    def _stands_with(self, k, v):
+        return [self.stand_sign(k, j) for j, node in enumerate(self.web[k]) if v in [w for w, u in node]]
+
+    def one_stand(self, k):
+        """Return a list of the step that one is at one node of the level k at most, [] for the first level."""
+        if k == 0:
+            return []
+        row = at_most([(self.stand_sign(k, j), 1) for j in range(len(self.web[k]))], 1)
+        return [self.draft.listed("sign", self._s, row)]
 
 
 class EndGoal:
@@ -134,7 +141,7 @@ class Walk:
         x = net.names[k]
         here = [(net.stand_sign(k, j), False)]
         nexts = {v: u for v, u in net.web[k][j]}
-        numbers = []
+        numbers = net.one_stand(k)
         for v in net.draft.book.domains[x]:
             if v in nexts:
                 behind = self._step(k + 1, nexts[v], {**taken, x: v})
@@ -142,5 +149,5 @@ class Walk:
                 sides = here + chosen + [(("is", x, v), False)] + self._sides
                 numbers.append(net.draft.led(sides, [], [went, behind]))
             else:
-                numbers.append(net.missed(k, j, v))
+                numbers.append(net.left(k, v))
         return net.draft.led(here + chosen + self._sides, [], numbers + [net.draft.given(("one", x, 0))])

@@ -11,13 +11,13 @@ from aswritten.visits import MOST_FIRST, MOST_WHOLE, Search, model_of_part, name
 
 
 class Part:
-    """A part of a model, with a search that has ended."""
+    """A part of a model, with the model inside it and a search that has ended."""
 
     def __init__(self, model, names, most, is_to_first):
         self.names = names
-        self.model = model_of_part(model, names)
-        self.domains = domains_of(self.model)
-        self.striker = striker_of(self.model, tuple([s for s, saying in self.model[1]]))
+        self.inside = model_of_part(model, names)
+        self.domains = domains_of(self.inside)
+        self.striker = striker_of(self.inside, tuple([s for s, saying in self.inside[1]]))
         self.search = Search(self.striker, names, most, is_to_first)
         self.search.start(self.domains)
         self.fillings = [{x: values[0] for x, values in lefts.items()} for lefts in self.search.fillings]

@@ -164,7 +164,7 @@ def _better(reading, step):
     wishes, fillings = reading.head[2:]
     if len(fillings) != 1 or wishes == ():
         return None
-    return better_row(reading.book.model, wishes, fillings[0]), BETTER
+    return better_row(reading.book.source, wishes, fillings[0]), BETTER
 
 
 def _beside(reading, step):
@@ -175,7 +175,7 @@ def _beside(reading, step):
     for wish, name in zip(wishes, names):
         if not reading.is_known(name) or name[0] != "name":
             return None
-        if reading.named[name[1]] != beside_row(reading.book.model, wish, fillings[i]):
+        if reading.named[name[1]] != beside_row(reading.book.source, wish, fillings[i]):
             return None
     return (tuple([((name, True), 1) for name in sorted(set(names))]), 1), BESIDE
 
@@ -185,7 +185,7 @@ def _turned(reading, step):
     word = step[1]
     if type(word) is not tuple or word == () or not all([is_number(k, 0, len(exchanges) - 1) for k in word]):
         return None
-    return turned_row(reading.book.model, order, [exchanges[k] for k in word]), TURNED
+    return turned_row(reading.book.source, order, [exchanges[k] for k in word]), TURNED
 
 
 _READS = {

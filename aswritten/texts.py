@@ -9,7 +9,7 @@ from aswritten.prints import text_of
 def flatten(text):
     """Return (model, wishes, places) of a text; raise BadText with the number of its first wrong line."""
     told = read_text(text)
-    return (told.model_told(), told.wishes, tuple(sorted(told.places)))
+    return (told.model_told(), told.wished, tuple(sorted(told.places)))
 
 
 def printed(model, wishes):

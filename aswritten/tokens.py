@@ -37,10 +37,6 @@ class Cursor:
         """Return the token at the place."""
         return self._tokens[self._place]
 
-    def is_before(self, token):
-        """Tell whether this token stands behind the one at the place."""
-        return self._tokens[self._place:][1:2] == [token]
-
     def skip(self, token):
         """Go on if this token stands at the place, and tell whether it did."""
         if self._tokens[self._place] != token:

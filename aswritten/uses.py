@@ -33,14 +33,14 @@ def _have_prices(wishes):
     return any([prices == 1 for constant, terms, prices in wishes])
 
 
-def is_resting(before, after, asked, paper):
-    """Tell whether the paper, taken in the model before, rests in the model after."""
-    unknowns, sayings = used_names(before, asked, paper)
+def is_resting(used, before, after, asked, head):
+    """Tell whether a paper with this head that uses these names, taken in the model before, rests in the one after."""
+    unknowns, sayings = used
     if not _have_same(before[0], after[0], unknowns):
         return False
     if not _have_same(before[1], after[1], sayings) or not _have_same(before[2], after[2], sayings):
         return False
-    return _is_head_resting(before, after, asked, paper[0])
+    return _is_head_resting(before, after, asked, head)
 
 
 def _have_same(before, after, names):

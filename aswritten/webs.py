@@ -75,13 +75,13 @@ def _part_paper(model, part):
     rows = sorted([tuple([at[x] for x in part.names]) for at in part.fillings])
     web = web_of(len(part.names), rows)
     if rows == []:
-        return (web, none_answer(part.model, part)[1], ())
+        return (web, none_answer(part.inside, part)[1], ())
     wider = web_model(model, part.names, web)
     draft = Draft(Book(wider))
     net = Net(draft, wider[2][-1][0], part.names, web)
     there = draft.paper(part.proved(draft, EndGoal(net)))[1]
     back = []
-    for s, saying in part.model[1]:
+    for s, saying in part.inside[1]:
         papers = []
         for row in draft.book.listed("tells", s):
             number = draft.ruled(row, []) if row[1] == 0 else Walk(net, len(draft.steps), row).told()

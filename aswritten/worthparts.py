@@ -51,7 +51,7 @@ def _joined_pairs(model, wishes, part):
         pairs = [(term, c * (high - low + 1)) for term, c in pairs]
         pairs.extend(weighed_terms(part.domains, [(x, w) for x, w in terms if x in part.domains]))
         if prices == 1:
-            pairs.extend([(("kept", s), -price) for s, saying, price in part.model[2]])
+            pairs.extend([(("kept", s), -price) for s, saying, price in part.inside[2]])
     return pairs
 
 
