@@ -204,6 +204,8 @@ class Places(Lines):
                        "i in row if cost = 1", "i in row if gap(i, i) = 1", "i in row if gap(i) = 1", "i in row if i + 1 = 2",
                        "i in row if cost(d) = 1", "i in row if 1000001 = i", "i in row if -1000001 = i"):
             self.wrong(f"s for {places}: unlike z")
+        self.wrong("s for i in row, j in row, k in row, l in col if i < 0: unlike z")
+        self.wrong("s: unlike z, each i in row, j in row, k in row, l in col if i < 0: y(i, l)")
         self.wrong("s for: unlike z")
         self.wrong("s for i in row unlike z")
         self.right("s for j in row, i in col: unlike z")
@@ -279,6 +281,9 @@ class Sums(Lines):
         self.right("s: z + sum i in row, j in row: (sum k in row: (1) + sum l in row: (1)) >= 0")
         self.wrong("s: z + sum i in row, j in row: (sum k in row, l in col: (1)) >= 0")
         self.wrong("s: z + sum i in row: (sum j in row: (sum k in row: (sum l in row: (1)))) >= 0")
+        self.right("s: z >= sum i in row, j in row, k in row: (1)")
+        self.right("wish sum i in row, j in row, k in row: (1)")
+        self.wrong("wish sum i in row, j in row: (sum k in row, l in row: (1))")
         # the variables of "for" do not count
         self.right("s for n in row: z + sum i in row, j in row, k in row: (1) >= 0")
 
@@ -460,6 +465,11 @@ class Models(Lines):
                        "claim and ()", "product z, w, x(a)", "unlike each i in row if i < 0: x(i)", "ahead z; w, x(a)"):
             self.assertEqual(self.right(f"s for n in row if n < 0: {saying}")[0], model)
             self.wrong(f"s: {saying}")
+        for saying in ("product z, w", "product z, w, x(a), x(b)", "when " + "not " * 6 + "z = 1: unlike z", "ahead z, w",
+                       "claim and (or (and (or (and (or (z = 1))))))", "claim or (and (z = 1, or (and (or (and (z = 1))))))"):
+            self.wrong(f"s for n in row if n < 0: {saying}")
+        self.right("s for n in row if n < 0: when " + "not " * 5 + "z = 1: unlike z")
+        self.right("s for n in row if n < 0: claim and (or (and (or (and (z = 1)))))")
         for saying in ("z >= q", "z >=", "unlike x", "unlike x(d)", "z * w >= 1", "z >= 1000001", "table z: (1000001)",
                        "count z: 1 is 0..9999999", "claim z = -1000001"):
             self.wrong(f"s for n in row if n < 0: {saying}")
