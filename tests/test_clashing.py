@@ -165,6 +165,15 @@ class JudgeClashes(unittest.TestCase):
         self.assertIs(judge_clashes(EXAMPLE, ("p", "q"), (lots, givings)), False)
         self.assertIs(judge_clashes((EXAMPLE[0], EXAMPLE[1][:2], ()), self.asked, (lots, givings)), False)
 
+    def test_lots_that_are_not_least_in_one_list(self):
+        model = (EXAMPLE[0], EXAMPLE[1][:2] + (("r", ("unlike", ("x",))),), ())
+        (pair,), givings = clashes(model, self.asked)
+        self.assertEqual((pair[0], [lot for lot, filling in givings]), (("p", "q"), [("p",), ("q",)]))
+        self.assertTrue(judge_clashes(model, self.asked, ((pair,), givings)))
+        self.assertFalse(judge_clashes(model, self.asked, ((pair, (("p", "q", "r"), pair[1])), givings)))
+        more = (givings[0], (("p", "r"), givings[0][1]), givings[1])
+        self.assertFalse(judge_clashes(model, self.asked, ((pair,), more)))
+
     def test_papers_of_other_lots_are_not_enough(self):
         # each list is right for the other one, but a filling shows that it is no clash
         lots, givings = clashes(EXAMPLE, self.asked)

@@ -70,6 +70,11 @@ class Views(unittest.TestCase):
             rows = tuple((*values, sum(values) % 2) for values in itertools.product(*map(range, sizes)))
             self.assertEqual(self.number(one, other, ((names, rows),)), None if right else 0)
 
+    def test_one_row(self):
+        one, other = ((("x", (3,)),), (), ()), ((("y", (1, 2)),), (), ())
+        self.assertIsNone(self.number(one, other, ((("x",), ((3, 2),)),)))
+        self.assertEqual(self.number(one, other, ((("x",), ()),)), 0)
+
     def test_seen(self):
         self.assertEqual([seen(ONE, OTHER, THERE, (v,)) for v in range(3)], [(1, 0, 0), (0, 1, 0), (0, 0, 1)])
         self.assertEqual(seen(OTHER, ONE, BACK, (0, 1, 1)), (2,))
@@ -218,7 +223,8 @@ class Alike(unittest.TestCase):
                       ((tells[::-1], returns), second), (((tells[0][:1], tells[1]), returns), second),
                       (((tells[0][::-1], tells[1]), returns), second), ((tells, (returns[0][1:],)), second),
                       ((tells, (returns[0][::-1],)), second), ((tells, (returns[0] * 2,)), second),
-                      (((tells[0] + tells[1], tells[1]), returns), second), ((tells, ((NO_HEAD, ()),)), second)):
+                      (((tells[0] + tells[1], tells[1]), returns), second), ((tells, ((NO_HEAD, ()),)), second),
+                      ((tells, returns, ()), second), (paper[0], second + ((),))):
             self.assertIs(judge_alike(ONE, OTHER, THERE, BACK, wrong), False)
         self.assertFalse(judge_alike(OTHER, ONE, BACK, THERE, paper))
         self.assertFalse(judge_alike((ONE[0], (), ()), OTHER, THERE, BACK, paper))

@@ -96,6 +96,13 @@ class Papers(unittest.TestCase):
         self.assertEqual(renamed_paper(told, ()), told)
         self.assertEqual(renamed_paper(paper(), NAMES), paper())
 
+    def test_an_unknown_that_is_called_name(self):
+        self.assertEqual(renamed_asked(("row", row("is name 0, name 3 -> is x 1")), (("name", "n"),)),
+                         ("row", row("is n 0, name 3 -> is x 1")))
+        told = paper(("given", ("one", "name", 0)), ("side", (("is", "name", 1), True)), ("side", (("name", 1), True)))
+        right = paper(("given", ("one", "n", 0)), ("side", (("is", "n", 1), True)), ("side", (("name", 1), True)))
+        self.assertEqual(renamed_paper(told, (("name", "n"),)), right)
+
     def check(self, model, asked, one, names):
         """The paper has the same fault before and after."""
         new = renamed(model, names)

@@ -216,6 +216,19 @@ class Rests(unittest.TestCase):
             one = ((("x", "y"), (SWAP,)) + one[0][2:], one[1])
             self.check(right, ("unbeaten", wish, tuple(worth for worth, filling in pairs)), one, after, before)
 
+    def test_exchanges_that_keep_no_wish(self):
+        # the paper is taken, as it has no mark T, but it rests only where wishes are not asked for
+        small = (UNKNOWNS[:2], SAYINGS[:2], ())
+        wishes = ((0, (("x", 1),), 0), (0, (("x", 1), ("y", 1)), 0))
+        word, worth, filling, one = best(small, wishes)
+        one = ((("x", "y"), (SWAP,)) + one[0][2:], one[1])
+        self.check(False, ("best", wishes, worth), one, small, small)
+        word, pairs, one = unbeaten(small, wishes)
+        one = ((("x", "y"), (SWAP,)) + one[0][2:], one[1])
+        self.check(False, ("unbeaten", wishes, tuple(worth for worth, filling in pairs)), one, small, small)
+        one = paper(("given", ("one", "x", 0)), head=(("x", "y"), (SWAP,), wishes, ()))
+        self.check(True, ("always", row("-> is x 0, is x 1, is x 2")), one, small, small)
+
     def test_exchanges_that_keep_a_wish_no_more(self):
         # the soft saying of the wish is exchanged with one that after has, too
         unknowns = UNKNOWNS[:2]

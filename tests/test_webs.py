@@ -10,6 +10,7 @@ from aswritten.errors import TooFar
 from aswritten.givens import sign_rows, telling_rows
 from aswritten.judge import judge, trimmed
 from aswritten.netproofs import EndGoal, Net, Walk
+from aswritten.nets import is_web
 from aswritten.partial import Part
 from aswritten.rows import check_sign, sign_holds
 from aswritten.search import all_of, part_model_of, parts, whole
@@ -141,6 +142,27 @@ class Webs(unittest.TestCase):
         self.assertEqual(ways(least_web(free_model(*WHOLE_2000), ("x04", "x02", "x00", "x01", "x03"))), 1728)
 
 
+class Forms(unittest.TestCase):
+    domains = [(0, 1, 2), (0, 1)]
+    web = ((((0, 0), (2, 1)),), (((0, 0), (1, 0)), ((1, 0),)), ((),))
+
+    def test_right_ones(self):
+        for web in (self.web, ((), (), ()), ((((1, 0),),), (((0, 0),),), ((),)), ((((0, 1),),),) + self.web[1:]):
+            self.assertTrue(is_web(self.domains, web))
+
+    def test_wrong_in_one_thing(self):
+        first, second, last = self.web
+        for web in ((first, second), (first, second, last, last), (), None, [first, second, last], (first * 2, second, last),
+                    (first, second, ((), ())), (first, second, ()), (first, second, (((0, 0),),)), (first, (), last),
+                    ((), second, last), (((),), second, last), (first, second + ((),), last), (first, second + (None,), last),
+                    ((((0, 0), (2, 2)),), second, last), ((((0, 0), (2, -1)),), second, last), ((((0, 0), (3, 1)),), second, last),
+                    ((((2, 1), (0, 0)),), second, last), ((((0, 0), (0, 1)),), second, last), ((((0, 0, 0), (2, 1)),), second, last),
+                    ((((0,), (2, 1)),), second, last), ((((False, 0), (2, 1)),), second, last), ((((0, False), (2, 1)),), second, last),
+                    (([(0, 0), (2, 1)],), second, last), (list(first), second, last), (first, second, [()]), (first, second, ([],)),
+                    ((((0, 0), (0, 0)),), second, last), ((((0, 0), (1, 0), (2, 0), (2, 1)),), second, last)):
+            self.assertIs(is_web(self.domains, web), False, web)
+
+
 class WebModels(unittest.TestCase):
     web = ((((0, 0), (2, 1)),), (((0, 0), (1, 0)), ((1, 0),)), ((),))
 
@@ -261,7 +283,8 @@ class JudgeCount(unittest.TestCase):
         self.assertTrue(judge_count(SMALL, 8, self.value))
         for part in ((web, there, ()), (web, there, (back[0][1:],)), (web, there, (back[0] + back[0][:1],)),
                      (web, there, back + back), (web, there, (tuple(reversed(back[0])),)), (web, back[0][0], back),
-                     (web, there, ((there,) + back[0][1:],)), (web, (NO_HEAD, ()), back), (web, there), (there, web, back)):
+                     (web, there, ((there,) + back[0][1:],)), (web, (NO_HEAD, ()), back), (web, there), (there, web, back),
+                     (web, there, back, ())):
             self.assertIs(judge_count(SMALL, 8, (part,) + self.value[1:]), False)
         self.assertIs(judge_count(SMALL, 8, self.value[:1]), False)
         self.assertIs(judge_count(SMALL, 8, self.value + self.value[1:]), False)
