@@ -37,9 +37,7 @@ class RowGoal:
         return self._view.led([self._row], lefts, self.sides, [self._back])
 
     def told(self, number):
-        """Put the row, where the step tells its name, or clashes."""
-        if self._draft.rows[number] == ((), 1):
-            return self._draft.ruled(self._row, [number])
+        """Put the row, where the step tells its name."""
         return self._draft.added([(self._name, 1), (number, self._row[1])])
 
 
