@@ -123,10 +123,9 @@ class Draft:
         kept = {number: True}
         waiting = [number]
         while waiting:
-            for other in self._used_by(waiting.pop()):
-                if other not in kept:
-                    kept[other] = True
-                    waiting.append(other)
+            used = self._used_by(waiting.pop())
+            waiting.extend([other for other in used if other not in kept])
+            kept.update({other: True for other in used})
         anew = {old: place for place, old in enumerate(sorted(kept))}
         return tuple([renumbered(self.steps[old], anew) for old in sorted(kept)])
 

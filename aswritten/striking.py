@@ -76,7 +76,8 @@ class Striker:
         while waiting:
             s = list(waiting)[0]
             del waiting[s]
-            for x, v in struck_values(self.saids[s], lefts):
+            struck = struck_values(self.saids[s], lefts)
+            for x, v in struck:
                 lefts[x] = tuple([w for w in lefts[x] if w != v])
                 entries.append((x, v, s))
                 if lefts[x] == ():
