@@ -100,5 +100,9 @@ def parts_of(model):
 def model_of_part(model, part):
     """Return the model of the unknowns of the part with all that is said of them."""
     unknowns = tuple([item for item in model[0] if item[0] in part])
-    sayings, soft = [tuple([item for item in items if own_names(item[1])[0] in part]) for items in model[1:]]
+    sayings, soft = [tuple([item for item in items if _has_any(item[1], part)]) for items in model[1:]]
     return (unknowns, sayings, soft)
+
+
+def _has_any(saying, names):
+    return any([x in names for x in own_names(saying)])
