@@ -5,9 +5,13 @@ from aswritten.rows import norm
 
 def summed(rows, pairs):
     """Return the sum of the rows with the numbers of the pairs (number, m), each m times."""
+    # gathered first, as a long row may be told very many times
+    times = {}
+    for number, m in pairs:
+        times[number] = times.get(number, 0) + m
     sides = []
     least = 0
-    for number, m in pairs:
+    for number, m in times.items():
         parts, n = rows[number]
         sides.extend([(side, c * m) for side, c in parts])
         least += n * m

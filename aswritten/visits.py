@@ -83,18 +83,16 @@ def filling_at(names, lefts):
 
 def parts_of(model):
     """Return the tuple of the parts: names joined by sayings, in order."""
-    names = names_in(model)
-    lots = {x: [x] for x in names}
+    # each name is of one lot alone, told by a name of the lot, so that no name can come to stand twice
+    lot_of = {x: x for x in names_in(model)}
     for item in model[1] + model[2]:
         own = own_names(item[1])
-        joined = lots[own[0]]
-        for x in own[1:]:
-            if lots[x] != joined:
-                joined = joined + lots[x]
-        for x in joined:
-            lots[x] = joined
-    parts = {tuple([y for y in names if y in lots[x]]): True for x in names}
-    return tuple(parts)
+        joined = {lot_of[x]: True for x in own}
+        lot_of = {x: own[0] if lot in joined else lot for x, lot in lot_of.items()}
+    parts = {}
+    for x, lot in lot_of.items():
+        parts.setdefault(lot, []).append(x)
+    return tuple([tuple(part) for part in parts.values()])
 
 
 def model_of_part(model, part):

@@ -4,7 +4,7 @@ at has for each variable the pair of its item and the place of this item in its 
 """
 
 from aswritten.errors import BadText
-from aswritten.forms import NUMBER_BOUND
+from aswritten.forms import MOST_NAMES, NUMBER_BOUND
 
 
 class Writer:
@@ -55,6 +55,9 @@ class Writer:
         members = []
         for places, thing in listed:
             members.extend([(thing, one) for one in ([at] if places is None else self.tuples(places, at))])
+            # told at once, as very many could follow; what has no places is left to the check of the saying
+            if places is not None and len(members) > MOST_NAMES:
+                raise BadText(self._number)
         return members
 
     def gathered(self, sums, at):

@@ -2,6 +2,7 @@
 
 import itertools
 import random
+import tracemalloc
 import unittest
 
 from aswritten.judge import first_fault, judge, rows_of
@@ -194,6 +195,23 @@ class Add(unittest.TestCase):
                                    ((0, 1, 1),),
                                    (0, 1), ((0,),), ((0, "1"),), ((-1, 1),), ((0, 10 ** 60),)):
             self.assertEqual(fault(one, ("add", pairs)), 1, pairs)
+
+    def test_a_step_very_many_times(self):
+        # a row of 432 parts that is told 3000 times is no list of more than a million parts
+        xs = tuple(f"x{k}" for k in range(24))
+        model = (tuple((x, tuple(range(12))) for x in xs), (), ())
+        steps = [("given", ("one", x, 0)) for x in xs] + [("given", ("part", x, v, 1)) for x in xs for v in range(6)]
+        steps.append(("add", tuple((k, k + 1) for k in range(len(steps)))))
+        many = len(steps)
+        steps.append(("add", ((many - 1, 2), (many - 2, 3)) * 3000))
+        long, short = last(*steps[:many], model=model)[0], last(*steps[:many - 1], model=model)[0]
+        pairs = [(side, 6000 * c) for side, c in long[0]] + [(side, 9000 * c) for side, c in short[0]]
+        tracemalloc.start()
+        told = last(*steps, model=model)
+        peak = tracemalloc.get_traced_memory()[1]
+        tracemalloc.stop()
+        self.assertEqual(told, (norm(tuple(pairs), 6000 * long[1] + 9000 * short[1]), ""))
+        self.assertLess(peak, 20 * 10 ** 6)
 
     def test_by_chance_against_norm(self):
         chance = random.Random(16)

@@ -4,8 +4,14 @@ import random
 import time
 import unittest
 
+from aswritten.answers import best, every, solve
+from aswritten.clashing import clashes
 from aswritten.errors import TooFar
+from aswritten.keeping import Keeper
+from aswritten.models import check_model, keeps
 from aswritten.search import all_fillings, all_of, first, part_model_of, parts, plain, whole
+from aswritten.webs import count
+from tests.alarm import Alarm
 from tests.chance import WORDS, model_by
 from tests.samples import model_of_all_kinds
 from tests.searching import NONE_400, NONE_402, WHOLE_2000, WHOLE_2001, beside, fillings_of, free_model, joining
@@ -158,6 +164,82 @@ class Parts(unittest.TestCase):
             for lists in by_parts.values():
                 many *= len(lists)
             self.assertEqual(many, len(told))
+
+
+X = tuple("abcdefghijklmnopqrstuvwx")
+
+
+def overlapping_model(rows, soft_rows=()):
+    """Unknowns that are 0 or 1, with a saying that always holds over each row of names."""
+    said = [("least", tuple((x, 1) for x in row), 0) for row in rows + list(soft_rows)]
+    sayings = tuple((f"s{k}", saying) for k, saying in enumerate(said[:len(rows)]))
+    soft = tuple((f"t{k}", saying, 1) for k, saying in enumerate(said[len(rows):]))
+    model = (tuple((x, (0, 1)) for x in X), sayings, soft)
+    check_model(model)
+    return model
+
+
+def overlapping_rows():
+    """Lists of rows that have the same names again and again, in other orders."""
+    return [
+        [X[:12]] + [(x,) + X[1:12] for x in X[12:]],
+        [X[:4]] + [(X[0], x, X[1], X[2]) for x in X[4:]],
+        [X[:2]] + [(x, X[0]) for x in X[2:]],
+        [X[k:k + 12][::-1] for k in range(13)],
+        [X[k:k + 12] for k in reversed(range(13))],
+        [X[k:k + 2][::-1] for k in range(23)],
+        [X[11::-1], X[:12]] * 10 + [X[:11:-1], X[12:]] * 9 + [(X[23], X[0])],
+        [X[k::2][::-1] for k in (0, 1)] * 20,
+    ]
+
+
+class PartsOfOverlappingSayings(unittest.TestCase):
+    def test_the_same_names_in_other_orders(self):
+        chance = random.Random(14)
+        for rows in overlapping_rows():
+            for _ in range(3):
+                for model in (overlapping_model(rows), overlapping_model(rows[:-8], rows[-8:])):
+                    with Alarm(self, 10):
+                        told = parts(model)
+                    self.assertEqual(told, parts_by_words(model), model)
+                chance.shuffle(rows)
+        with Alarm(self, 10):
+            self.assertEqual(parts(overlapping_model(overlapping_rows()[0])), (X,))
+            self.assertEqual(parts(overlapping_model(overlapping_rows()[-1])), (X[::2], X[1::2]))
+
+    def test_rows_by_chance(self):
+        chance = random.Random(15)
+        several = 0
+        for _ in range(150):
+            lot = chance.sample(X, chance.randint(2, 24))
+            rows = [tuple(chance.sample(lot, min(len(lot), chance.randint(1, 12)))) for _ in range(40)]
+            model = overlapping_model(rows[:chance.randint(0, 40)], rows[:chance.randint(0, 8)])
+            with Alarm(self, 10):
+                told = parts(model)
+            self.assertEqual(told, parts_by_words(model), model)
+            self.assertEqual(sorted(x for part in told for x in part), list(X))
+            several += len(told) > 1
+        self.assertGreater(several, 30)
+
+    def test_what_asks_for_the_parts(self):
+        for rows in overlapping_rows():
+            free = overlapping_model(rows)
+            pins = tuple((f"p{k}", ("claim", ("is", X[k], k % 2))) for k in range(min(20, 40 - len(rows))))
+            pinned = (free[0], free[1] + pins, free[2])
+            with Alarm(self, 30):
+                self.assertEqual(solve(free), ("filling", (0,) * 24))
+                self.assertEqual(first(free), max(len(part) for part in parts(free)))
+                for part in parts(free):
+                    told = (tuple(item for item in free[0] if item[0] in part),
+                            tuple(item for item in free[1] if item[1][1][0][0] in part), ())
+                    self.assertEqual(part_model_of(free, part), told)
+                self.assertEqual(Keeper(free, ((0, (), 1),)).some(), ("filling", (0,) * 24))
+                self.assertEqual(clashes(free, ("s0", "s1")), ((), (((), (0,) * 24),)))
+            if len(pins) > 15:
+                with Alarm(self, 30):
+                    self.assertEqual(count(pinned), 2 ** (24 - len(pins)))
+                    self.assertTrue(keeps(pinned, best(pinned, ((0, ((X[0], 1),), 1),))[2]))
+                    self.assertEqual([len(pairs) for pairs in every(pinned)], [2] * 24)
 
 
 class AllFillings(unittest.TestCase):

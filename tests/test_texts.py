@@ -1,10 +1,12 @@
 """[45] to [47]: texts, line by line."""
 
 import time
+import tracemalloc
 import unittest
 
 from aswritten.errors import BadText
 from aswritten.texts import flatten, told_by
+from tests.alarm import Alarm
 
 # two sets that share an item, data, and unknowns with and without sets
 HEAD = """set row: a b c
@@ -498,6 +500,29 @@ class Models(Lines):
         self.wrong("s: unlike each i in n, j in n, k in n: q(k)", head=head)
         self.right("data t(n, n): " + "7 " * 576, head=head)
         self.assertLess(time.perf_counter() - begin, 60)
+
+    def test_lists_that_would_have_very_many_names(self):
+        head = "set n: " + " ".join(f"i{k}" for k in range(24)) + "\nunknown z: 0..1\nunknown x: 0..1"
+        places = "i in n, j in n, k in n"
+        many = ", ".join([f"each {places}: z"] * 500)
+        numbers = ", ".join([f"each {places}: 1"] * 500)
+        none = ", ".join([f"each {places} if i < 0: z"] * 20)
+        for line in (f"s: unlike {many}", f"s: when z = 1: ahead x; {many}", f"s: works z lengths {numbers} needs 1 room 1",
+                     f"s: works z lengths 1 needs {numbers} room 1", f"s: unlike {none}, {many}"):
+            tracemalloc.start()
+            with Alarm(self, 20):
+                self.assertEqual(fault(f"{head}\n{line}\n?"), 4, line[:40])
+            peak = tracemalloc.get_traced_memory()[1]
+            tracemalloc.stop()
+            self.assertLess(peak, 50 * 10 ** 6, line[:40])
+
+    def test_lists_of_12_names_by_several_each(self):
+        head = "set n: " + " ".join(f"i{k}" for k in range(14)) + "\nunknown q(n): 0..1"
+        listed = "each i in n if i < 5: q(i), q(i5), each i in n if 5 < i and i <= 11: q(i)"
+        for form, right in (("s: unlike {}", True), ("s: unlike {}, q(i12)", False), ("s: unlike q(i12), {}", False),
+                            ("s: unlike {}, each i in n if i = 12: q(i)", False), ("s: pick q(i12) of {} is q(i13)", True),
+                            ("s: unlike {}, each i in n if i < 0: q(i)", True)):
+            self.assertEqual(fault(f"{head}\n{form.format(listed)}"), None if right else 3, form)
 
     def test_told_by(self):
         places = (("a", 3), ("b", 7), ("b.c", 7), ("d", 1))
